@@ -1,0 +1,91 @@
+"""Every name of the interface stands in its file, with its parameters."""
+
+import ast
+import importlib
+import inspect
+import os
+import unittest
+
+FOLDER = os.path.join(os.path.dirname(os.path.dirname(os.path.abspath(__file__))), "unsewn")
+
+FUNCTIONS = {
+    "kinds": {
+        "is_integer": "thing", "is_number": "thing", "is_quotient": "thing", "is_heap": "thing", "is_book": "thing",
+        "is_word": "heap thing", "is_leaf": "heap thing", "is_lot": "heap thing", "is_three": "heap thing",
+        "is_order": "many thing",
+    },
+    "quotients": {
+        "quotient": "top bottom", "plus": "one other", "minus": "one other", "times": "one other", "over": "one other",
+        "is_less": "one other", "total": "quotients",
+    },
+    "determinants": {"determinant": "rows", "walk_rows": "book ground"},
+    "tables": {"table_of": "book ground", "column_of": "book ground word"},
+    "looks": {"look_shares": "book", "best_look": "book"},
+    "findkinds": {"is_find": "book thing", "are_finds": "book thing"},
+    "walks": {"walk_of": "book ground", "walk_back": "book ground"},
+    "shares": {
+        "order_share": "book three", "before_share": "book cover one other", "before_rows": "book cover",
+    },
+    "nexts": {"next_share": "book find", "next_rows": "book"},
+    "places": {"mean_place": "book cover leaf", "mean_places": "book cover"},
+    "bestrows": {"is_row": "book cover thing", "best_row": "book cover", "row_cost": "book cover row"},
+    "chordtables": {
+        "is_chords": "thing", "rank_on": "table lot", "is_free": "table lot", "pivoted": "table one other",
+        "free_lots": "table",
+    },
+}
+
+CLASSES = {
+    "shareclasses": {
+        "Shares": {
+            "__init__": "self book cover", "before": "self one other", "mean": "self leaf", "follows": "self find",
+            "ranked": "self", "look": "self",
+        },
+    },
+    "errors": {
+        "InvalidPaper": {"__init__": "self word at"}, "NotUsable": {"__init__": "self word at"},
+        "Unsound": {"__init__": "self reason"}, "Torn": {"__init__": "self finds"},
+        "InvalidEvent": {"__init__": "self event reason"}, "NothingToUndo": {"__init__": "self steps"},
+        "InvalidText": {"__init__": "self line field"}, "InvalidRow": {"__init__": "self row"},
+        "UnsewnError": {}, "PaperError": {}, "BookError": {}, "LiveError": {}, "TextError": {},
+    },
+}
+
+GENERATORS = ()
+
+
+def defined_in(module):
+    with open(os.path.join(FOLDER, module + ".py"), encoding="utf-8") as file:
+        tree = ast.parse(file.read())
+    return {node.name for node in tree.body if isinstance(node, (ast.FunctionDef, ast.ClassDef))}
+
+
+class TestInterface(unittest.TestCase):
+    def check_parameters(self, function, told):
+        parameters = inspect.signature(function).parameters.values()
+        self.assertEqual([parameter.name for parameter in parameters], told.split())
+        for parameter in parameters:
+            self.assertEqual(parameter.kind, inspect.Parameter.POSITIONAL_OR_KEYWORD)
+            self.assertIs(parameter.default, inspect.Parameter.empty)
+
+    def test_functions(self):
+        for module, rows in FUNCTIONS.items():
+            told = importlib.import_module("unsewn." + module)
+            for name, parameters in rows.items():
+                self.assertIn(name, defined_in(module))
+                self.check_parameters(getattr(told, name), parameters)
+
+    def test_classes(self):
+        for module, rows in CLASSES.items():
+            told = importlib.import_module("unsewn." + module)
+            for name, methods in rows.items():
+                self.assertIn(name, defined_in(module))
+                for method, parameters in methods.items():
+                    self.assertIn(method, vars(getattr(told, name)))
+                    self.check_parameters(vars(getattr(told, name))[method], parameters)
+
+    def test_generators(self):
+        for module, rows in FUNCTIONS.items():
+            told = importlib.import_module("unsewn." + module)
+            for name in rows:
+                self.assertEqual(inspect.isgeneratorfunction(getattr(told, name)), name in GENERATORS)

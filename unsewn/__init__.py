@@ -1,0 +1,1 @@
+"""Unsewn: loose leaves with catchwords, and which comes before which."""
