@@ -33,6 +33,32 @@ FUNCTIONS = {
         "is_chords": "thing", "rank_on": "table lot", "is_free": "table lot", "pivoted": "table one other",
         "free_lots": "table",
     },
+    "sides": {"sides_of": "table", "odd_round": "table"},
+    "heapcounts": {
+        "fan_of": "heap word", "ends_of": "heap word", "surplus_of": "heap word", "loops_of": "heap",
+        "from_word": "heap word", "to_word": "heap word", "like_leaves": "heap leaf", "like_sets": "heap",
+    },
+    "heaplots": {
+        "gates_of": "heap lot", "within": "heap lot", "leaving": "heap lot", "entering": "heap lot",
+        "hangs_together": "heap lot", "pieces_of": "heap",
+    },
+    "readings": {"is_reading": "book thing", "started_at": "book reading first", "readings_of": "book first"},
+    "exits": {"exits_of": "book reading", "is_exits": "book first thing", "reading_by": "book first exits"},
+    "counts": {"tree_count": "book word", "reading_count": "book"},
+    "orders": {
+        "in_order": "book reading three", "order_count": "book three", "order_readings": "book three",
+        "order_at": "book three index", "order_number": "book three reading",
+    },
+    "surely": {
+        "is_sure": "book three", "sure_ring": "book leaves", "sure_before": "book cover one other",
+        "sure_pairs": "book cover", "open_pairs": "book cover", "open_readings": "book cover one other",
+    },
+    "cutting": {"cut_book": "book three"},
+    "shrinking": {"may_shrink": "book three lot", "shrunk": "book three"},
+    "maps": {"map_of": "book three"},
+    "mapchecker": {"lets_map": "book three thing"},
+    "mapkinds": {"is_map": "book three thing"},
+    "maptexts": {"map_lines": "chart"},
 }
 
 CLASSES = {
@@ -51,7 +77,7 @@ CLASSES = {
     },
 }
 
-GENERATORS = ()
+GENERATORS = ("readings_of", "order_readings")
 
 
 def defined_in(module):

@@ -11,13 +11,14 @@ def swept(rows):
     places an odd number of times. If the determinant is 0, the rows are not to be used.
     """
     rows = [list(row) for row in rows]
+    width = len(rows)
     sign = 1
     before = 1
-    for at in range(len(rows)):
+    for at in range(width):
         pick = at
-        while pick < len(rows) and rows[pick][at] == 0:
+        while pick < width and rows[pick][at] == 0:
             pick += 1
-        if pick == len(rows):
+        if pick == width:
             return 0, rows
         if pick != at:
             rows[at], rows[pick] = rows[pick], rows[at]

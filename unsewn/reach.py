@@ -10,7 +10,8 @@ def reached_from(pairs, word):
     seen = {word: True}
     waiting = [word]
     while waiting:
-        for near in beside.get(waiting.pop(), []):
+        here = waiting.pop()
+        for near in beside.get(here, []):
             if near not in seen:
                 seen[near] = True
                 waiting.append(near)
