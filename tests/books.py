@@ -44,6 +44,15 @@ def small_books(most_words, most_leaves):
                     yield (size, leaves)
 
 
+def small_heaps(most_words, most_leaves):
+    """All heaps up to a size, their leaves ascending."""
+    for size in range(1, most_words + 1):
+        pairs = list(product(range(size), repeat=2))
+        for many in range(most_leaves + 1):
+            for leaves in combinations_with_replacement(pairs, many):
+                yield (size, leaves)
+
+
 def random_book(rng, size, many):
     """A book of the size, whose leaves are those of rings laid together, in any order; of about so many leaves."""
     while True:
@@ -77,6 +86,38 @@ def all_readings(book, first):
                 yield from lay(row + [leaf])
 
     return list(lay([first]))
+
+
+def all_pairings_plainly(book):
+    """All pairings, found by going through all orders of the leaves."""
+    leaves = book[1]
+    return [
+        order for order in permutations(range(len(leaves)))
+        if all(leaves[leaf][1] == leaves[order[leaf]][0] for leaf in range(len(leaves)))]
+
+
+def rolls_plainly(pairing):
+    """The rolls of a pairing, ascending."""
+    rolls = set()
+    for leaf in range(len(pairing)):
+        roll = [leaf]
+        while pairing[roll[-1]] != leaf:
+            roll.append(pairing[roll[-1]])
+        if min(roll) == leaf:
+            rolls.add(tuple(roll))
+    return tuple(sorted(rolls))
+
+
+def plain_finds(book):
+    """All finds of the book."""
+    leaves = book[1]
+    many = range(len(leaves))
+    return [(e, f) for e, f in product(many, repeat=2) if e != f and leaves[e][1] == leaves[f][0]]
+
+
+def has_find(reading, find):
+    """Whether the find's second leaf comes next behind its first one in the ring."""
+    return reading[(reading.index(find[0]) + 1) % len(reading)] == find[1]
 
 
 def all_trees(book, word):

@@ -1,14 +1,10 @@
 from itertools import combinations, product
 
-from tests.books import EACH, LOOSE, ODD_VALUES, ONE, PAIR, RING, SAMPLES, SINGLE, random_books, small_books
+from tests.books import (
+    EACH, LOOSE, ODD_VALUES, ONE, PAIR, RING, SAMPLES, SINGLE, plain_finds, random_books, small_books,
+)
 from tests.cases import NOT_NUMBERS, Case
 from unsewn.findkinds import are_finds, is_find
-
-
-def all_finds(book):
-    leaves = book[1]
-    many = range(len(leaves))
-    return [(e, f) for e, f in product(many, repeat=2) if e != f and leaves[e][1] == leaves[f][0]]
 
 
 def can_go_together(finds):
@@ -30,7 +26,7 @@ class TestFinds(Case):
 
     def test_pairs_of_leaves(self):
         for book in SAMPLES:
-            told = all_finds(book)
+            told = plain_finds(book)
             for pair in product(range(8), repeat=2):
                 self.assert_exact(is_find(book, pair), pair in told)
         self.assert_exact(is_find(ONE, (0, 1)), True)
@@ -64,7 +60,7 @@ class TestFinds(Case):
 
     def test_all_sets_of_finds(self):
         for book in (RING, EACH, ONE, PAIR, SINGLE) + tuple(small_books(2, 4)) + tuple(random_books(29, 6, 3, 5)):
-            finds = sorted(all_finds(book))
+            finds = sorted(plain_finds(book))
             for many in range(min(len(finds), 5) + 1):
                 for thing in list(combinations(finds, many))[:400]:
                     self.assert_exact(are_finds(book, thing), can_go_together(thing), (book, thing))

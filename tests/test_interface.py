@@ -59,6 +59,24 @@ FUNCTIONS = {
     "mapchecker": {"lets_map": "book three thing"},
     "mapkinds": {"is_map": "book three thing"},
     "maptexts": {"map_lines": "chart"},
+    "lands": {"lands_of": "book three chart", "mirrored": "chart"},
+    "heapchecker": {"fault_of": "heap", "lets_book": "thing"},
+    "mending": {"mend_count": "heap", "mend_leaves": "heap"},
+    "sharepapers": {"share_paper": "book three"},
+    "slips": {"is_slip": "thing", "heap_of": "slips", "slips_of": "names heap"},
+    "sliptexts": {"slip_lines": "slips"},
+    "turns": {"backwards": "heap", "renamed": "heap order", "dealt": "heap order"},
+    "makings": {
+        "hung": "heap word", "parted": "heap leaf", "joined": "heap other", "home_of": "heap lot",
+        "put_together": "heap lot",
+    },
+    "halving": {"halves_of": "book lot"},
+    "booktexts": {"book_line": "heap"},
+    "bookreadings": {"read_book": "line"},
+    "pairings": {
+        "is_pairing": "book thing", "rolls_of": "book pairing", "pairing_of": "book reading",
+        "reading_from": "book pairing first", "all_pairings": "book", "roll_table": "book",
+    },
 }
 
 CLASSES = {
@@ -67,6 +85,15 @@ CLASSES = {
             "__init__": "self book cover", "before": "self one other", "mean": "self leaf", "follows": "self find",
             "ranked": "self", "look": "self",
         },
+    },
+    "bookclasses": {
+        "Book": {
+            "__init__": "self heap", "plain": "self", "many": "self", "text": "self", "fan": "self word",
+            "backwards": "self", "hung": "self word", "parted": "self leaf", "__eq__": "self other",
+        },
+    },
+    "mapclasses": {
+        "Map": {"__init__": "self book three", "lots": "self", "rounds": "self", "lands": "self", "lines": "self"},
     },
     "errors": {
         "InvalidPaper": {"__init__": "self word at"}, "NotUsable": {"__init__": "self word at"},
@@ -77,7 +104,7 @@ CLASSES = {
     },
 }
 
-GENERATORS = ("readings_of", "order_readings")
+GENERATORS = ("readings_of", "order_readings", "all_pairings")
 
 
 def defined_in(module):
