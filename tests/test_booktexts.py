@@ -1,4 +1,4 @@
-from tests.books import EACH, LOOSE, ODD_VALUES, ONE, PAIR, RING, SAMPLES, SINGLE, exact, random_books, small_heaps
+from tests.books import EACH, LOOSE, ODD_VALUES, ONE, PAIR, RING, SAMPLES, SINGLE, random_books, small_heaps
 from tests.cases import Case
 from unsewn.bookreadings import read_book
 from unsewn.booktexts import book_line
@@ -67,4 +67,4 @@ class TestBookLines(Case):
             self.assert_exact(is_numeral(text), True)
         for text in ("", "00", "01", "-0", "-1", "+1", "1 ", " 1", "1.0", "a", "1_0", "\u00b2", "\u0661"):
             self.assert_exact(is_numeral(text), False)
-        self.assertEqual(exact(PAIR), exact(read_book("2: 0>1 1>0")))
+        self.assert_exact(read_book("2: 0>1 1>0"), PAIR)

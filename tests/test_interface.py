@@ -77,6 +77,20 @@ FUNCTIONS = {
         "is_pairing": "book thing", "rolls_of": "book pairing", "pairing_of": "book reading",
         "reading_from": "book pairing first", "all_pairings": "book", "roll_table": "book",
     },
+    "trees": {"is_tree": "book word thing", "trees_of": "book word", "tree_of": "book reading"},
+    "glueing": {"glued": "book find", "glued_all": "book finds", "count_with": "book finds"},
+    "numbering": {"reading_at": "book first index", "number_of": "book reading"},
+    "exchanges": {
+        "is_step": "book reading thing", "exchanged": "book reading step", "steps_between": "book one other",
+    },
+    "stepchecker": {"lets_steps": "book one other thing"},
+    "columnchecker": {"lets_column": "book ground word thing"},
+    "tablechecker": {"lets_table": "book ground thing"},
+    "grounds": {"is_table": "thing", "regrounded": "table word", "turned_over": "table"},
+    "changes": {"table_parted": "book ground leaf", "table_glued": "book ground find"},
+    "tabletexts": {"table_lines": "table"},
+    "tablereadings": {"read_table": "lines"},
+    "sharechecker": {"lets_share": "book three thing"},
 }
 
 CLASSES = {
@@ -95,6 +109,18 @@ CLASSES = {
     "mapclasses": {
         "Map": {"__init__": "self book three", "lots": "self", "rounds": "self", "lands": "self", "lines": "self"},
     },
+    "readingclasses": {
+        "Reading": {
+            "__init__": "self book leaves", "leaves": "self", "from_leaf": "self first", "index_of": "self leaf",
+            "next_of": "self leaf", "exits": "self", "has": "self find", "__eq__": "self other",
+        },
+    },
+    "tableclasses": {
+        "Table": {
+            "__init__": "self book ground", "entry": "self x y", "column": "self word", "lines": "self",
+            "moved": "self word", "behind": "self find", "__eq__": "self other",
+        },
+    },
     "errors": {
         "InvalidPaper": {"__init__": "self word at"}, "NotUsable": {"__init__": "self word at"},
         "Unsound": {"__init__": "self reason"}, "Torn": {"__init__": "self finds"},
@@ -104,7 +130,7 @@ CLASSES = {
     },
 }
 
-GENERATORS = ("readings_of", "order_readings", "all_pairings")
+GENERATORS = ("readings_of", "order_readings", "all_pairings", "trees_of")
 
 
 def defined_in(module):

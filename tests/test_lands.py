@@ -1,7 +1,7 @@
 import random
 from itertools import permutations, product
 
-from tests.books import EACH, LOOSE, ODD_VALUES, ONE, PAIR, RING, random_book, random_books, small_books, threes
+from tests.books import EACH, LOOSE, ODD_VALUES, ONE, PAIR, RING, random_book, random_books, small_books
 from tests.cases import NOT_THREES, Case
 from tests.test_maps import LOTS, MAP, RING_MAP, all_rounds_of, is_plain_map, plain_lands
 from unsewn.cutting import cut_book
@@ -107,4 +107,3 @@ class TestMirror(Case):
         for book in (LOOSE, EACH):
             self.assert_not_usable("chart", mirrored, book)
         self.assert_exact(mirrored(chart=MAP), mirrored(MAP))
-        self.assertEqual(len(list(threes(EACH))), 120)

@@ -190,6 +190,28 @@ class TestLanguage(unittest.TestCase):
             if isinstance(node.func, ast.Name) and node.func.id in names:
                 self.assertIn(id(node), iterated, at)
 
+    def test_generators_are_passed_plain_values(self):
+        names = {
+            node.name for _, node in self.nodes(ast.FunctionDef)
+            if any(isinstance(part, (ast.Yield, ast.YieldFrom)) for part in ast.walk(node))}
+        for at, node in self.nodes(ast.Call):
+            if isinstance(node.func, ast.Name) and node.func.id in names:
+                self.assertEqual(node.keywords, [], at)
+                for part in node.args:
+                    self.assertIsInstance(part, (ast.Name, ast.Attribute, ast.Constant, ast.Lambda), at)
+
+    def test_equality_is_one_comparison(self):
+        for at, node in self.nodes(ast.FunctionDef):
+            if node.name == "__eq__":
+                told, = node.body
+                self.assertTrue(isinstance(told, ast.Return) and isinstance(told.value, ast.BoolOp), at)
+                self.assertIsInstance(told.value.op, ast.And, at)
+                first, *rest = told.value.values
+                self.assertEqual(ast.unparse(first.func), "isinstance", at)
+                for part in rest:
+                    mine, theirs = ast.unparse(part).split(" == ")
+                    self.assertEqual(mine.replace("self.", "other."), theirs, at)
+
     def test_constants(self):
         for at, node in self.nodes(ast.Constant):
             self.assertIsInstance(node.value, (int, str, type(None)), at)

@@ -15,8 +15,8 @@ NOT_SLIPS = tuple(thing for thing in NOT_SLIPS_ALONE if thing != (("a", "b"),)) 
     ("a", "b"), (GOOD,), [GOOD[0]], list(GOOD), GOOD + (None,), GOOD + (("a", "b c"),), (None,) + GOOD, GOOD + ("a", "b"),
 )
 NOT_NAMES = ODD_VALUES + (
-    ("a",), ("a", "b", "c"), ("a", "a"), ("a", ""), ("a", " "), ("a", "b c"), ["a", "b"], ("a", 1), ("a", None), "ab", ("a", ("b",)),
-    ("a", True), (("a", "b"),), ("", ""),
+    ("a",), ("a", "b", "c"), ("a", "a"), ("a", "b", "b"), ("a", ""), ("a", " "), ("a", "b c"), ["a", "b"], ("a", 1), "ab", ("a", ("b",)),
+    ("a", None), ("a", True), (("a", "b"),), ("", ""),
 )
 HEAPS = SAMPLES + ((1, ()), (3, ()), (3, ((0, 2),))) + tuple(small_heaps(2, 2))
 

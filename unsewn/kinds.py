@@ -16,6 +16,11 @@ def is_number(thing):
     return is_integer(thing) and thing >= 0
 
 
+def is_string(thing):
+    """Whether thing is a string."""
+    return isinstance(thing, str)
+
+
 def is_below(many, thing):
     """Whether thing is a number below many."""
     return is_number(thing) and thing < many

@@ -2,8 +2,8 @@
 
 from unsewn.checks import need
 from unsewn.kinds import is_below, is_three
-from unsewn.prefixes import ordered_behind_row
-from unsewn.readings import is_reading, next_leaves, readings_of, started_at
+from unsewn.prefixes import count_ahead, ordered_behind_row, reading_behind
+from unsewn.readings import is_reading, readings_of, started_at
 from unsewn.rings import comes_round
 
 
@@ -33,21 +33,7 @@ def order_at(book, three, index):
     """The reading that order_readings yields at the index."""
     need(is_three(book, three), "three")
     need(is_below(order_count(book, three), index), "index")
-    row = (three[0],)
-    ahead = index
-    while len(row) < len(book[1]):
-        row, ahead = one_leaf_on(book, three, row, ahead)
-    return row
-
-
-def one_leaf_on(book, three, row, ahead):
-    """The row with the next leaf of the reading that has so many ahead of it; and how many are left ahead then."""
-    for leaf in next_leaves(book, row):
-        many = ordered_behind_row(book, row + (leaf,), three)
-        if ahead < many:
-            break
-        ahead -= many
-    return row + (leaf,), ahead
+    return reading_behind(book, three[0], index, lambda row: ordered_behind_row(book, row, three))
 
 
 def order_number(book, three, reading):
@@ -55,9 +41,4 @@ def order_number(book, three, reading):
     need(is_three(book, three), "three")
     need(is_reading(book, reading) and comes_round(reading, three), "reading")
     told = started_at(book, reading, three[0])
-    number = 0
-    for at in range(1, len(told)):
-        row = told[:at]
-        less = [leaf for leaf in next_leaves(book, row) if leaf < told[at]]
-        number += sum([ordered_behind_row(book, row + (leaf,), three) for leaf in less])
-    return number
+    return count_ahead(book, told, lambda row: ordered_behind_row(book, row, three))

@@ -1,6 +1,7 @@
 """Pairings, and the rolls in which they lay the leaves."""
 
 from unsewn.checks import need
+from unsewn.growing import grown_rows
 from unsewn.kinds import is_leaf, is_order
 from unsewn.readings import is_reading, started_at
 from unsewn.rings import rings_of
@@ -44,19 +45,13 @@ def reading_from(book, pairing, first):
 
 def all_pairings(book):
     """A generator of all pairings, ascending."""
+    start = ()
     many = len(book[1])
-    waiting = [()]
-    while waiting:
-        row = waiting.pop()
-        if len(row) == many:
-            yield row
-        else:
-            # The last one put in is taken out next, so the rows go in with the greatest leaf first.
-            waiting.extend([row + (leaf,) for leaf in reversed(leaves_to_give(book, row))])
+    yield from grown_rows(start, many, lambda row: leaves_to_give(book, row))
 
 
 def leaves_to_give(book, row):
-    """The leaves, ascending, that a pairing that begins with the row can give to the next leaf.
+    """A list of the leaves, ascending, that a pairing that begins with the row can give to the next leaf.
 
     As many leaves end in a word as begin with it, so each of them leaves enough for the leaves behind.
     """

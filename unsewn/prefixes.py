@@ -1,27 +1,19 @@
-"""Readings that begin with told leaves: how many there are, without going through them."""
+"""Readings that begin with told leaves: how many there are, and which one has so many ahead of it."""
 
-from unsewn.counts import reading_count
-from unsewn.kinds import is_book
+from unsewn.glueing import book_of_rows, count_by_rows
 from unsewn.quotients import times
+from unsewn.readings import next_leaves
 from unsewn.shares import order_share
 
 
-def book_behind(book, row):
-    """What is left of the book if the leaves of the row, each next behind the one ahead, are glued into the leaf 0.
-
-    The other leaves stand behind it, ascending. A word without leaves is left out, so that the result may be a book.
-    """
-    leaves = book[1]
-    glued = [(leaves[row[0]][0], leaves[row[-1]][1])]
-    glued.extend([leaves[leaf] for leaf in range(len(leaves)) if leaf not in row])
-    words = sorted({word for pair in glued for word in pair})
-    return len(words), tuple([(words.index(first), words.index(catchword)) for first, catchword in glued])
+def rows_behind(book, row):
+    """A list of the row and, behind it, a row of one for each other leaf, ascending."""
+    return [row] + [(leaf,) for leaf in range(len(book[1])) if leaf not in row]
 
 
 def count_behind_row(book, row):
     """How many readings begin with the row."""
-    rest = book_behind(book, row)
-    return reading_count(rest) if is_book(rest) else 0
+    return count_by_rows(book, rows_behind(book, row))
 
 
 def ordered_behind_row(book, row, three):
@@ -33,6 +25,33 @@ def ordered_behind_row(book, row, three):
     many = count_behind_row(book, row)
     if b in row or many == 0:
         return many
-    others = [leaf for leaf in range(len(book[1])) if leaf not in row]
-    share = order_share(book_behind(book, row), (0, 1 + others.index(b), 1 + others.index(c)))
+    rows = rows_behind(book, row)
+    share = order_share(book_of_rows(book, rows), (0, rows.index((b,)), rows.index((c,))))
     return times((many, 1), share)[0]
+
+
+def reading_behind(book, first, ahead, count):
+    """The reading from first that has so many ahead of it; count tells of a row how many begin with it."""
+    row = (first,)
+    while len(row) < len(book[1]):
+        row, ahead = one_leaf_on(book, row, ahead, count)
+    return row
+
+
+def one_leaf_on(book, row, ahead, count):
+    """The row with the next leaf of the reading that has so many ahead of it; and how many are left ahead then."""
+    for leaf in next_leaves(book, row):
+        many = count(row + (leaf,))
+        if ahead < many:
+            break
+        ahead -= many
+    return row + (leaf,), ahead
+
+
+def count_ahead(book, reading, count):
+    """How many readings from the same leaf are less; count tells of a row how many begin with it."""
+    number = 0
+    for at in range(1, len(reading)):
+        row = reading[:at]
+        number += sum([count(row + (leaf,)) for leaf in next_leaves(book, row) if leaf < reading[at]])
+    return number

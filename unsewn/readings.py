@@ -1,6 +1,7 @@
 """The readings of a book."""
 
 from unsewn.checks import need
+from unsewn.growing import grown_rows
 from unsewn.kinds import is_leaf, is_order
 from unsewn.reach import reached_from
 
@@ -24,15 +25,9 @@ def started_at(book, reading, first):
 def readings_of(book, first):
     """A generator of all readings from first, ascending."""
     need(is_leaf(book, first), "first")
+    start = (first,)
     many = len(book[1])
-    waiting = [(first,)]
-    while waiting:
-        row = waiting.pop()
-        if len(row) == many:
-            yield row
-        else:
-            # The last one put in is taken out next, so the rows go in with the greatest leaf first.
-            waiting.extend([row + (leaf,) for leaf in reversed(next_leaves(book, row))])
+    yield from grown_rows(start, many, lambda row: next_leaves(book, row))
 
 
 def next_leaves(book, row):
