@@ -91,6 +91,24 @@ FUNCTIONS = {
     "tabletexts": {"table_lines": "table"},
     "tablereadings": {"read_table": "lines"},
     "sharechecker": {"lets_share": "book three thing"},
+    "oneword": {
+        "last_share": "book cover leaf", "turn_share": "book cover leaf index", "queue_share": "book cover leaves",
+    },
+    "rollcounts": {"two_rolls": "book one other", "three_rolls": "book three", "with_apart": "book three"},
+    "volumes": {"volume_count": "heap ends"},
+    "fours": {"four_gap": "book four"},
+    "laps": {"laps_mean": "book leaves", "distance_mean": "book one other"},
+    "findcounts": {
+        "order_count_with": "book finds three", "count_barring": "book finds barred",
+        "order_count_barring": "book finds barred three",
+    },
+    "ways": {"are_ways": "book three thing", "ways_of": "book three", "spliced": "book three ways"},
+    "wayschecker": {"lets_ways": "book three thing"},
+    "layers": {"layers_of": "book cover", "near_pairs": "book cover", "room_of": "book cover leaf"},
+    "tips": {"firsts_of": "book cover", "lasts_of": "book cover"},
+    "crossings": {"are_twofold": "book", "crossings": "book reading", "types_of": "book reading three"},
+    "exchanging": {"rolls_after": "book reading lot", "reading_after": "book reading lot"},
+    "mapreadings": {"read_map": "lines"},
 }
 
 CLASSES = {
@@ -121,6 +139,11 @@ CLASSES = {
             "moved": "self word", "behind": "self find", "__eq__": "self other",
         },
     },
+    "sureclasses": {
+        "Sure": {
+            "__init__": "self book cover", "pairs": "self", "layers": "self", "room": "self leaf", "is_before": "self one other",
+        },
+    },
     "errors": {
         "InvalidPaper": {"__init__": "self word at"}, "NotUsable": {"__init__": "self word at"},
         "Unsound": {"__init__": "self reason"}, "Torn": {"__init__": "self finds"},
@@ -141,11 +164,7 @@ def defined_in(module):
 
 class TestInterface(unittest.TestCase):
     def check_parameters(self, function, told):
-        parameters = inspect.signature(function).parameters.values()
-        self.assertEqual([parameter.name for parameter in parameters], told.split())
-        for parameter in parameters:
-            self.assertEqual(parameter.kind, inspect.Parameter.POSITIONAL_OR_KEYWORD)
-            self.assertIs(parameter.default, inspect.Parameter.empty)
+        self.assertEqual(str(inspect.signature(function)), "(" + ", ".join(told.split()) + ")")
 
     def test_functions(self):
         for module, rows in FUNCTIONS.items():

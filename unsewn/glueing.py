@@ -7,15 +7,19 @@ from unsewn.findkinds import are_finds, is_find
 from unsewn.kinds import is_book
 
 
+def packed(pairs):
+    """The heap of the pairs of words without the words that stand in none of them."""
+    words = sorted({word for pair in pairs for word in pair})
+    return len(words), tuple([(words.index(first), words.index(catchword)) for first, catchword in pairs])
+
+
 def book_of_rows(book, rows):
     """What is left of the book if each row of leaves, each next behind the one ahead, is one leaf: a heap.
 
     A word without leaves is left out. The heap is a book unless the rows tear the book.
     """
     leaves = book[1]
-    pairs = [(leaves[row[0]][0], leaves[row[-1]][1]) for row in rows]
-    words = sorted({word for pair in pairs for word in pair})
-    return len(words), tuple([(words.index(first), words.index(catchword)) for first, catchword in pairs])
+    return packed([(leaves[row[0]][0], leaves[row[-1]][1]) for row in rows])
 
 
 def rows_by(book, finds):
@@ -30,6 +34,11 @@ def rows_by(book, finds):
                 row.append(behind[row[-1]])
             rows.append(tuple(row))
     return tuple(rows)
+
+
+def rows_with(rows, leaves):
+    """The tuple of the indices of the rows in which the leaves stand."""
+    return tuple([at for leaf in leaves for at, row in enumerate(rows) if leaf in row])
 
 
 def glued(book, find):

@@ -21,6 +21,11 @@ def is_string(thing):
     return isinstance(thing, str)
 
 
+def are_lines(thing):
+    """Whether thing is a tuple of at least one string."""
+    return is_tuple_of(is_string, thing) and len(thing) > 0
+
+
 def is_below(many, thing):
     """Whether thing is a number below many."""
     return is_number(thing) and thing < many

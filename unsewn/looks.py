@@ -15,9 +15,14 @@ def look_shares(book):
 
 def best_look(book):
     """The find whose share is nearest to one half, the least of several; None without one."""
+    return nearest_half(look_shares(book))
+
+
+def nearest_half(looks):
+    """The first find whose share is nearest to one half, of pairs (find, share); None without one."""
     best = None
     least = (1, 1)
-    for find, share in look_shares(book):
+    for find, share in looks:
         distance = quotient(abs(2 * share[0] - share[1]), share[1])
         if is_less(distance, least):
             best = find

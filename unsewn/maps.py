@@ -13,6 +13,11 @@ def map_of(book, three):
     if max([len(leaving(cut, lot)) for lot in lots]) > 2:
         return None
     # If there is a map at all, there is one with these lots; what is left to find are its rounds.
+    return map_with(cut, lots)
+
+
+def map_with(cut, lots):
+    """Any map of the book cut that has these lots, with one gate each or two; None if there is none."""
     for rounds in all_rounds(cut, lots):
         if is_ball(rounds) and has_land(lots, rounds, last_three(cut)):
             return lots, rounds

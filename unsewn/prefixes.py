@@ -1,6 +1,7 @@
 """Readings that begin with told leaves: how many there are, and which one has so many ahead of it."""
 
 from unsewn.glueing import book_of_rows, count_by_rows
+from unsewn.growing import grown_at, grown_number
 from unsewn.quotients import times
 from unsewn.readings import next_leaves
 from unsewn.shares import order_share
@@ -32,26 +33,9 @@ def ordered_behind_row(book, row, three):
 
 def reading_behind(book, first, ahead, count):
     """The reading from first that has so many ahead of it; count tells of a row how many begin with it."""
-    row = (first,)
-    while len(row) < len(book[1]):
-        row, ahead = one_leaf_on(book, row, ahead, count)
-    return row
-
-
-def one_leaf_on(book, row, ahead, count):
-    """The row with the next leaf of the reading that has so many ahead of it; and how many are left ahead then."""
-    for leaf in next_leaves(book, row):
-        many = count(row + (leaf,))
-        if ahead < many:
-            break
-        ahead -= many
-    return row + (leaf,), ahead
+    return grown_at((first,), len(book[1]), lambda row: next_leaves(book, row), count, ahead)
 
 
 def count_ahead(book, reading, count):
     """How many readings from the same leaf are less; count tells of a row how many begin with it."""
-    number = 0
-    for at in range(1, len(reading)):
-        row = reading[:at]
-        number += sum([count(row + (leaf,)) for leaf in next_leaves(book, row) if leaf < reading[at]])
-    return number
+    return grown_number(reading, 1, lambda row: next_leaves(book, row), count)

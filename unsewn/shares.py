@@ -17,11 +17,16 @@ def scaled_leads(book):
     return many, rows
 
 
+def lead_round(leads, ring):
+    """The sum of what scaled_leads returns for each leaf and the next one, round a tuple of leaves."""
+    rows = leads[1]
+    return sum([rows[ring[at - 1]][ring[at]] for at in range(len(ring))])
+
+
 def share_in(leads, three):
     """The share of the order of the three, by what scaled_leads returns."""
-    many, rows = leads
-    a, b, c = three
-    return quotient(many + rows[a][b] + rows[b][c] + rows[c][a], 2 * many)
+    many = leads[0]
+    return quotient(many + lead_round(leads, three), 2 * many)
 
 
 def order_share(book, three):

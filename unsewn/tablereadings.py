@@ -2,7 +2,7 @@
 
 from unsewn.checks import need
 from unsewn.errors import InvalidText
-from unsewn.kinds import is_quotient, is_string, is_tuple_of
+from unsewn.kinds import are_lines, is_quotient
 from unsewn.numerals import is_numeral
 
 
@@ -18,7 +18,7 @@ def quotient_by(part):
 
 def read_table(lines):
     """The table whose lines these are."""
-    need(is_tuple_of(is_string, lines) and lines != (), "lines")
+    need(are_lines(lines), "lines")
     rows = []
     for line in range(len(lines)):
         row = [quotient_by(part) for part in lines[line].split(" ")]
