@@ -109,6 +109,24 @@ FUNCTIONS = {
     "crossings": {"are_twofold": "book", "crossings": "book reading", "types_of": "book reading three"},
     "exchanging": {"rolls_after": "book reading lot", "reading_after": "book reading lot"},
     "mapreadings": {"read_map": "lines"},
+    "slipreadings": {"read_slips": "lines"},
+    "windows": {
+        "windows_of": "text width", "text_book": "text width", "spelled": "grams text", "counts_of": "text width",
+        "alike_texts": "one other width",
+    },
+    "texts": {
+        "text_of": "book reading", "is_text": "book cover thing", "readings_per_text": "book cover", "text_count": "book cover",
+        "texts_of": "book cover",
+    },
+    "textnumbers": {"text_at": "book cover index", "number_of_text": "book cover text"},
+    "pairmeans": {"pair_mean": "book cover one other"},
+    "missing": {"missing_leaf": "heap"},
+    "mendchecker": {"lets_mend": "heap thing"},
+    "aftermaps": {"three_after": "book three find", "map_after": "book three chart find"},
+    "liveevents": {"is_event": "thing", "is_log": "thing"},
+    "eventtexts": {"event_line": "event", "log_lines": "log"},
+    "eventreadings": {"read_event": "line", "read_log": "lines"},
+    "replaying": {"replayed": "book cover log"},
 }
 
 CLASSES = {
@@ -144,6 +162,27 @@ CLASSES = {
             "__init__": "self book cover", "pairs": "self", "layers": "self", "room": "self leaf", "is_before": "self one other",
         },
     },
+    "carrierclasses": {
+        "Concordance": {
+            "__init__": "self text width", "many": "self", "counts": "self", "kth": "self index", "number": "self text",
+            "__eq__": "self other",
+        },
+    },
+    "live": {
+        "LiveHeap": {
+            "__init__": "self book cover", "do": "self event", "do_all": "self events * keep=False", "undo": "self steps=1",
+            "count_behind": "self events", "log": "self", "found": "self", "barred": "self", "held": "self", "states": "self",
+            "glued_now": "self", "map_now": "self three", "count_now": "self", "share_now": "self three",
+            "before_now": "self one other", "place_now": "self leaf", "next_now": "self find", "look_now": "self",
+            "__eq__": "self other",
+        },
+    },
+    "desk": {
+        "Desk": {
+            "__init__": "self book cover", "ask": "self line", "ask_all": "self lines", "log": "self", "__eq__": "self other",
+            "__iter__": "self",
+        },
+    },
     "errors": {
         "InvalidPaper": {"__init__": "self word at"}, "NotUsable": {"__init__": "self word at"},
         "Unsound": {"__init__": "self reason"}, "Torn": {"__init__": "self finds"},
@@ -153,7 +192,7 @@ CLASSES = {
     },
 }
 
-GENERATORS = ("readings_of", "order_readings", "all_pairings", "trees_of")
+GENERATORS = ("readings_of", "order_readings", "all_pairings", "trees_of", "texts_of")
 
 
 def defined_in(module):

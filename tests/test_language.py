@@ -212,6 +212,40 @@ class TestLanguage(unittest.TestCase):
                     mine, theirs = ast.unparse(part).split(" == ")
                     self.assertEqual(mine.replace("self.", "other."), theirs, at)
 
+    def test_iteration_is_over_one_attribute(self):
+        for at, node in self.nodes(ast.FunctionDef):
+            if node.name == "__iter__":
+                told, = node.body
+                self.assertRegex(ast.unparse(told), r"^return iter\(self\.[a-z_]+\)$", at)
+
+    def test_no_two_lambdas_on_a_line(self):
+        lines = [at for at, _ in self.nodes(ast.Lambda)]
+        self.assertEqual(len(lines), len(set(lines)), lines)
+
+    def test_no_operators_stand_in_classes(self):
+        for at, node in self.nodes(ast.ClassDef):
+            told = {part.name for part in node.body if isinstance(part, ast.FunctionDef) and part.name.startswith("__")}
+            self.assertTrue(told <= {"__init__", "__eq__", "__iter__"}, at)
+
+    def test_module_values_are_only_read(self):
+        tables = {
+            target.id for tree in self.trees.values() for node in tree.body if isinstance(node, ast.Assign)
+            for target in node.targets}
+        self.assertTrue(tables)
+        read = set()
+        for _, node in self.nodes(ast.Subscript, ast.Compare, ast.Attribute, ast.Assign):
+            if isinstance(node, ast.Compare):
+                read |= {id(part) for part in node.comparators}
+            elif isinstance(node, ast.Attribute):
+                read |= {id(node.value)} if node.attr == "get" else set()
+            elif isinstance(node, ast.Assign):
+                read |= {id(part) for part in node.targets}
+            else:
+                read.add(id(node.value))
+        for at, node in self.nodes(ast.Name):
+            if node.id in tables:
+                self.assertIn(id(node), read, at)
+
     def test_constants(self):
         for at, node in self.nodes(ast.Constant):
             self.assertIsInstance(node.value, (int, str, type(None)), at)

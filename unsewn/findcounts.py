@@ -2,15 +2,13 @@
 
 from unsewn.barring import count_having, orders_having
 from unsewn.checks import need
-from unsewn.findkinds import are_finds, is_find
-from unsewn.kinds import is_three, is_tuple_of
+from unsewn.findkinds import are_finds, is_set_of_finds
+from unsewn.kinds import is_three
 
 
 def are_barred(book, thing):
     """Whether thing is a set of at most four pairs, each a find."""
-    if not is_tuple_of(lambda part: is_find(book, part), thing) or len(thing) > 4:
-        return False
-    return all([thing[at] < thing[at + 1] for at in range(len(thing) - 1)])
+    return is_set_of_finds(book, thing) and len(thing) <= 4
 
 
 def order_count_with(book, finds, three):

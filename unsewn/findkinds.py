@@ -1,6 +1,6 @@
 """Which values are finds of a book."""
 
-from unsewn.kinds import are_different, is_tuple_of
+from unsewn.kinds import are_different, ascends, is_tuple_of
 
 
 def is_find(book, thing):
@@ -9,6 +9,11 @@ def is_find(book, thing):
     if not are_different(len(leaves), thing) or len(thing) != 2:
         return False
     return leaves[thing[0]][1] == leaves[thing[1]][0]
+
+
+def is_set_of_finds(book, thing):
+    """Whether thing is a set of pairs, each a find, whether they go together or not."""
+    return is_tuple_of(lambda part: is_find(book, part), thing) and ascends(thing)
 
 
 def close_ring(finds):
@@ -25,9 +30,7 @@ def close_ring(finds):
 
 def are_finds(book, thing):
     """Whether thing is a set of finds of which some reading could have all, by their leaves alone."""
-    if not is_tuple_of(lambda part: is_find(book, part), thing):
-        return False
-    if not all([thing[at] < thing[at + 1] for at in range(len(thing) - 1)]):
+    if not is_set_of_finds(book, thing):
         return False
     if len({e for e, _ in thing}) < len(thing) or len({f for _, f in thing}) < len(thing):
         return False

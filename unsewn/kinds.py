@@ -41,6 +41,21 @@ def are_below(many, thing):
     return is_tuple_of(lambda part: is_below(many, part), thing)
 
 
+def is_pair_below(many, thing):
+    """Whether thing is a pair of numbers below many."""
+    return are_below(many, thing) and len(thing) == 2
+
+
+def are_pairs_below(many, thing):
+    """Whether thing is a tuple of pairs of numbers below many."""
+    return is_tuple_of(lambda part: is_pair_below(many, part), thing)
+
+
+def ascends(row):
+    """Whether each element of the row, numbers or tuples of numbers, is less than the next one."""
+    return all([row[at] < row[at + 1] for at in range(len(row) - 1)])
+
+
 def is_quotient(thing):
     """Whether thing is a pair (top, bottom) in lowest terms, bottom at least 1."""
     if not is_tuple_of(is_integer, thing) or len(thing) != 2:
@@ -55,7 +70,7 @@ def is_heap(thing):
     size, leaves = thing
     if not is_number(size) or size == 0:
         return False
-    return is_tuple_of(lambda leaf: are_below(size, leaf) and len(leaf) == 2, leaves)
+    return are_pairs_below(size, leaves)
 
 
 def is_book(thing):
@@ -90,9 +105,7 @@ def is_lot(heap, thing):
 
 def is_set_below(many, thing):
     """Whether thing is an ascending tuple of numbers below many."""
-    if not are_below(many, thing):
-        return False
-    return all([thing[at] < thing[at + 1] for at in range(len(thing) - 1)])
+    return are_below(many, thing) and ascends(thing)
 
 
 def are_different(many, thing):

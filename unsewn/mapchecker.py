@@ -3,7 +3,7 @@
 from unsewn.cutting import cut_book
 from unsewn.errors import InvalidPaper
 from unsewn.heaplots import entering, leaving
-from unsewn.kinds import is_lot, is_number, is_tuple_of
+from unsewn.kinds import ascends, is_lot, is_number, is_tuple_of
 from unsewn.landrings import has_land, is_ball, land_count, last_three
 
 
@@ -33,9 +33,7 @@ def is_pair_of_rows(thing):
 
 def are_parting(cut, lots):
     """Whether the lots, tuples of numbers, are an ascending tuple of sets of words, each word in just one."""
-    if not all([is_lot(cut, lot) for lot in lots]):
-        return False
-    if not all([lots[at] < lots[at + 1] for at in range(len(lots) - 1)]):
+    if not all([is_lot(cut, lot) for lot in lots]) or not ascends(lots):
         return False
     return sorted([word for lot in lots for word in lot]) == list(range(cut[0]))
 

@@ -3,13 +3,13 @@
 from unsewn.checks import need
 from unsewn.counts import reading_count
 from unsewn.glueing import packed
-from unsewn.kinds import are_below, is_book, is_tuple_of
+from unsewn.kinds import are_pairs_below, is_book
 from unsewn.orders import order_count
 
 
 def are_ends(heap, thing):
     """Whether thing is a tuple of one to three pairs of words."""
-    return is_tuple_of(lambda pair: are_below(heap[0], pair) and len(pair) == 2, thing) and 1 <= len(thing) <= 3
+    return are_pairs_below(heap[0], thing) and 1 <= len(thing) <= 3
 
 
 def volume_count(heap, ends):
