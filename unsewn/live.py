@@ -131,8 +131,7 @@ class LiveHeap:
         many = self.count_now()
         leaves = range(len(self._book[1]))
         finds = [(e, f) for e in leaves for f in leaves if is_find(self._book, (e, f))]
-        looks = [(find, self._share_with(find, many)) for find in finds]
-        return nearest_half([(find, share) for find, share in looks if share not in ((0, 1), (1, 1))])
+        return nearest_half([(find, self._share_with(find, many)) for find in finds])
 
     def _share_of(self, threes):
         """The shares of the readings with the order of each three, added up."""

@@ -19,8 +19,9 @@ def best_look(book):
 
 
 def nearest_half(looks):
-    """The first find whose share is nearest to one half, of pairs (find, share); None without one."""
+    """Of pairs (find, share), the first find whose share is nearest to one half, but neither 0 nor 1; else None."""
     best = None
+    # So far apart, doubled, one half is from 0 and from 1.
     least = (1, 1)
     for find, share in looks:
         distance = quotient(abs(2 * share[0] - share[1]), share[1])
